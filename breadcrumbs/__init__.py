@@ -1,0 +1,1 @@
+"""Breadcrumbs: trails of visited pages."""
