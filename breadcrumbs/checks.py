@@ -1,4 +1,4 @@
-"""Checks of values that several files share."""
+"""Checks of values, and a choice by an index, that several files share."""
 
 from breadcrumbs.errors import InvalidNumberError
 
@@ -29,3 +29,15 @@ def check_number(value, low, high):
     """Raise an error unless the value is an integer from low to high."""
     if not is_between(value, low, high):
         raise InvalidNumberError("not an integer within its limits")
+
+
+def place_of(numbers, index):
+    """Return the place of the number into which the index falls, and the index within this number.
+
+    The numbers tell how many things there are of each kind, one kind behind the other.
+    """
+    place = 0
+    while index >= numbers[place]:
+        index -= numbers[place]
+        place += 1
+    return (place, index)

@@ -1,7 +1,7 @@
 """Sites: pages and the links between them."""
 
 from breadcrumbs.checks import are_different_pages, are_pages, is_between
-from breadcrumbs.errors import InvalidPageError, InvalidPagesError, InvalidSiteError
+from breadcrumbs.errors import InvalidPageError, InvalidPagesError, InvalidSiteError, InvalidTrailError
 
 MOST_PAGES = 12
 MOST_STEPS = 60
@@ -90,6 +90,26 @@ def check_pages(site, pages):
     """Raise an error unless the value is a list of different pages of the site."""
     if not are_different_pages(pages, len(site)):
         raise InvalidPagesError("not a list of different pages of the site")
+
+
+def check_trail_of(site, trail):
+    """Raise an error unless the value is a trail of the site."""
+    if not is_trail_of(site, trail):
+        raise InvalidTrailError("not a trail of the site")
+
+
+def trails_up_to(site, page, most):
+    """Yield the trails of at most so many pages that begin with the page, in list order."""
+    waiting = [[page]]
+    while waiting:
+        trail = waiting.pop()
+        # A copy, because the caller may change what is yielded.
+        yield list(trail)
+        if len(trail) < most:
+            # The trail that is taken next is the last one that waits.
+            for after in reversed(site[trail[-1]]):
+                if after not in trail:
+                    waiting.append([*trail, after])
 
 
 def _are_links(value, page, many):

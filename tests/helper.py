@@ -26,6 +26,35 @@ NO_STARTS = [value for value in NO_TRAILS if value is not None]
 
 LONG = [(page * page) % 40 for page in range(300)]
 
+S = [[1, 2], [0, 2], [0, 3], [0]]
+FULL = [[after for after in range(12) if after != page] for page in range(12)]
+RING = [[(page + 1) % 12] for page in range(12)]
+SITES = [[[]], [[], []], [[1], []], [[], [0]], [[1], [0]], S, FULL, RING, [[] for _ in range(12)]]
+
+# Each is wrong in one way only.
+NO_SITES = [*STRANGE, [], [[] for _ in range(13)], ([], []), ((1,), (0,)), [(1,), [0]], [[1], (0,)], [[1], ()],
+            [[0]], [[1]], [[-1], []], [[2], []], [[True], [0]], [[1], [False]], [[1.0], []], [["1"], []],
+            [[1, 1], []], [[2, 1], [], []], [[1, 2, 1], [], []], [[1, 1, 2], [], []], [[0, 1], []], [[1], [0, 1]],
+            [[1], None], [None], [[1], {0: 0}], [[1], {0}], {0: [1], 1: [0]}, "ab", [[[1]], []], [[None], []],
+            [[after for after in range(13) if after != page] for page in range(13)], [[], 0], [[], [[]]]]
+
+NO_PAGES_OF_S = [*STRANGE, (0,), (0, 1), [0, 0], [0, 1, 0], [4], [0, 4], [-1, 0], [0, True], [False, 1], [0, None],
+                 [0, "1"], [0, 1.0], [[0]], {0: 1}, 0, 3]
+
+NO_PAGE_OF_S = [*NO_NUMBERS, 4, 12, 40, "0", [0]]
+
+NO_TRAILS_OF_S = [*NO_PAGES_OF_S, [], [0, 3], [1, 3], [3, 2, 1], [0, 1, 2, 3, 0], [0, 1, 0], [0, 1, 1], [2, 3, 1]]
+NO_WALKS_OF_S = [*[value for value in NO_PAGES_OF_S if value != [0, 1, 0]], [], [0, 3], [1, 3], [0, 1, 2, 3, 1],
+                 [0, 1, 1], [3, 3], [0, 1] * 31, [0, 1] * 40]
+
+# Values for `steps` and `most`, which are integers from 0 to 60.
+NO_STEPS = [*NO_NUMBERS, 61, 62, "5", [5]]
+
+TWO_WAYS = [[1, 4], [0, 2, 4], [1, 3], [2, 4], [0, 1, 3]]
+# No walk from page 0 reaches page 3, and none from page 2 or page 4 goes on.
+ONE_WAY = [[1, 2], [0, 2, 4], [], [0, 4], []]
+TWO_SIDES = [[after for after in range(12) if (page < 6) != (after < 6)] for page in range(12)]
+
 
 def simulated(visits, start=()):
     """The trail after visits, page by page, as the definition tells it."""
@@ -58,6 +87,45 @@ def some_visits():
     """Ordinary visits of many sizes, always the same ones."""
     drawn = random.Random(7)
     return [[drawn.randrange(many) for _ in range(size)] for many in (2, 5, 12, 40) for size in (1, 7, 40, 299, 300)]
+
+
+def small_sites(many):
+    """All sites with so many pages."""
+    links = [[list(chosen) for size in range(many)
+              for chosen in itertools.combinations([after for after in range(many) if after != page], size)]
+             for page in range(many)]
+    return [[list(row) for row in site] for site in itertools.product(*links)]
+
+
+def links_of(site):
+    return {(page, after) for page, links in enumerate(site) for after in links}
+
+
+def site_of(links, many):
+    return [sorted(after for page, after in links if page == source) for source in range(many)]
+
+
+def drawn_sites(many, count):
+    """Sites with so many pages and from few to many links, always the same ones."""
+    drawn = random.Random(many)
+    return [[[after for after in range(many) if after != page and drawn.random() < share] for page in range(many)]
+            for share in (0.2, 0.5, 0.8) for _ in range(count)]
+
+
+def all_walks(site, page, steps):
+    """All walks from a page with so many steps, in list order, by taking all steps."""
+    walks = [[page]]
+    for _ in range(steps):
+        walks = [[*walk, after] for walk in walks for after in site[walk[-1]]]
+    return walks
+
+
+def all_trails_of(site, page):
+    """All trails of the site that begin with a page, in list order, by trying all orders of pages."""
+    others = [other for other in range(len(site)) if other != page]
+    found = [[page, *order] for size in range(len(site)) for order in itertools.permutations(others, size)]
+    links = links_of(site)
+    return sorted(trail for trail in found if set(zip(trail, trail[1:])) <= links)
 
 
 class CallTest(unittest.TestCase):

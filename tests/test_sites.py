@@ -6,40 +6,8 @@ import unittest
 from breadcrumbs.errors import InvalidPageError, InvalidPagesError, InvalidSiteError
 from breadcrumbs.sites import (is_site, is_trail_of, is_two_way, is_walk, links_into, reached_from, reversed_site,
                                site_without)
-from tests.helper import NO_NUMBERS, STRANGE, CallTest
-
-S = [[1, 2], [0, 2], [0, 3], [0]]
-FULL = [[after for after in range(12) if after != page] for page in range(12)]
-RING = [[(page + 1) % 12] for page in range(12)]
-SITES = [[[]], [[], []], [[1], []], [[], [0]], [[1], [0]], S, FULL, RING, [[] for _ in range(12)]]
-
-# Each is wrong in one way only.
-NO_SITES = [*STRANGE, [], [[] for _ in range(13)], ([], []), ((1,), (0,)), [(1,), [0]], [[1], (0,)], [[1], ()],
-            [[0]], [[1]], [[-1], []], [[2], []], [[True], [0]], [[1], [False]], [[1.0], []], [["1"], []],
-            [[1, 1], []], [[2, 1], [], []], [[1, 2, 1], [], []], [[1, 1, 2], [], []], [[0, 1], []], [[1], [0, 1]],
-            [[1], None], [None], [[1], {0: 0}], [[1], {0}], {0: [1], 1: [0]}, "ab", [[[1]], []], [[None], []],
-            [[after for after in range(13) if after != page] for page in range(13)], [[], 0], [[], [[]]]]
-
-NO_PAGES_OF_S = [*STRANGE, (0,), (0, 1), [0, 0], [0, 1, 0], [4], [0, 4], [-1, 0], [0, True], [False, 1], [0, None],
-                 [0, "1"], [0, 1.0], [[0]], {0: 1}, 0, 3]
-
-NO_PAGE_OF_S = [*NO_NUMBERS, 4, 12, 40, "0", [0]]
-
-
-def small_sites(many):
-    """All sites with so many pages."""
-    links = [[list(chosen) for size in range(many)
-              for chosen in itertools.combinations([after for after in range(many) if after != page], size)]
-             for page in range(many)]
-    return [[list(row) for row in site] for site in itertools.product(*links)]
-
-
-def links_of(site):
-    return {(page, after) for page, links in enumerate(site) for after in links}
-
-
-def site_of(links, many):
-    return [sorted(after for page, after in links if page == source) for source in range(many)]
+from tests.helper import (FULL, NO_PAGE_OF_S, NO_PAGES_OF_S, NO_SITES, RING, SITES, STRANGE, CallTest, S, links_of,
+                          site_of, small_sites)
 
 
 class IsSiteTest(CallTest):
