@@ -1,6 +1,6 @@
 """Effects: what visits do to all trails at once."""
 
-from breadcrumbs.checks import PAGES, check_number, is_between, is_int
+from breadcrumbs.checks import PAGES, check_number, is_between, is_int, place_of
 from breadcrumbs.errors import InvalidEffectError
 from breadcrumbs.trails import check_trail, check_visits
 
@@ -75,13 +75,9 @@ class Effect:
 def effect_of(visits):
     """Return the effect of the visits."""
     check_visits(visits)
-    if len(visits) == 0:
-        return Effect(None, [])
-    targets = {}
-    for page, after in zip(visits, visits[1:]):
-        targets[page] = after
-    targets[visits[-1]] = visits[-1]
-    return Effect(visits[0], sorted(targets.items()))
+    first = visits[0] if len(visits) > 0 else None
+    targets = _targets_of(visits)
+    return Effect(first, sorted(targets.items()))
 
 
 def same_effect(one, two):
@@ -91,14 +87,19 @@ def same_effect(one, two):
 
 def parting_trail(one, two):
     """Return a trail from which the visits lead to different trails, or None."""
-    former = effect_of(one)
-    latter = effect_of(two)
-    if former == latter:
-        return None
-    for trail in _short_trails():
-        if former(trail) != latter(trail):
-            return trail
-    return None
+    check_visits(one)
+    check_visits(two)
+    former = _targets_of(one)
+    latter = _targets_of(two)
+    for page in range(PAGES):
+        exits = (former.get(page), latter.get(page))
+        if exits[0] != exits[1]:
+            # From the trail below, visits of the page lead to it and to its exit, while visits
+            # without it keep the page behind it, which is therefore none of the exits.
+            others = [other for other in range(PAGES) if other != page and other not in exits]
+            return [page, others[0]]
+    # With the same exits only the first pages can differ. The empty trail leads to them.
+    return [] if one[:1] != two[:1] else None
 
 
 def count_effects(many):
@@ -171,17 +172,10 @@ def _way_on(targets, page):
     return way
 
 
-def _short_trails():
-    # Different effects part on one of these: if they agree on [] and on each
-    # [page], then a page is visited by one of them alone, and this one removes
-    # what stands behind that page, while the other one keeps it.
-    yield []
-    for page in range(PAGES):
-        yield [page]
-    for page in range(PAGES):
-        for after in range(PAGES):
-            if after != page:
-                yield [page, after]
+def _targets_of(visits):
+    """Return the exit of each visited page."""
+    # The last visit of a page is the one whose exit is kept.
+    return dict(zip(visits, visits[1:] + visits[-1:]))
 
 
 def _power(base, times):
@@ -192,47 +186,47 @@ def _power(base, times):
 
 
 def _nth_targets(many, index):
+    ends = list(range(many))
     chosen = []
-    for _ in range(many):
-        target = 0
-        count = _count_endings(many, [*chosen, target])
-        while index >= count:
-            index -= count
-            target += 1
-            count = _count_endings(many, [*chosen, target])
+    for page in range(many):
+        target, index = place_of(_count_choices(ends, page), index)
         chosen.append(target)
+        ends = _ends_with(ends, page, target)
     return chosen
 
 
 def _targets_rank(targets):
+    ends = list(range(len(targets)))
     rank = 0
-    for page, chosen in enumerate(targets):
-        for target in range(chosen):
-            rank += _count_endings(len(targets), [*targets[:page], target])
+    for page, target in enumerate(targets):
+        rank += sum(_count_choices(ends, page)[:target])
+        ends = _ends_with(ends, page, target)
     return rank
 
 
-def _count_endings(many, chosen):
-    """Count the lists of the exits of the pages 0 to many - 1 that begin with the chosen ones."""
-    ends = [_end_of(chosen, page) for page in range(many)]
-    lasts = [page for page, target in enumerate(chosen) if page == target]
-    if None in ends or len(lasts) > 1:
-        return 0
-    free = many - len(chosen)
-    if free == 0:
-        return 1
+def _count_choices(ends, page):
+    """Count, for each exit of a page, the lists of exits that begin with the chosen ones and this one.
+
+    The exits of the pages before this one are chosen. From each page they lead to its end
+    in ends: to a page without a chosen exit, or to the page visited last.
+    """
+    many = len(ends)
     # The chosen exits form trees that lead to the free pages and, if it is
     # chosen, to the page visited last. Of n pages there are n ** (t - 1) trees
     # that contain t given ones, and s / n of these have the root of a given
     # one of s pages as their own root.
-    share = ends.count(lasts[0]) if len(lasts) == 1 else 1
-    return share * _power(many, free - 1)
+    power = _power(many, many - page - 1)
+    joined = ends.count(page)
+    finished = len([end for end in ends if end < page])
+    to_free = max(finished, 1) * power // many
+    to_last = (finished + joined) * power // many
+    # An exit must not lead back to the page, but the page visited last is its own exit.
+    counts = [to_free if end > page else to_last if end < page else 0 for end in ends]
+    if finished == 0:
+        counts[page] = joined * power // many
+    return counts
 
 
-def _end_of(chosen, page):
-    """Return the page at which the chosen exits from a page stop, or None if they go round."""
-    for _ in range(len(chosen) + 1):
-        if page >= len(chosen) or chosen[page] == page:
-            return page
-        page = chosen[page]
-    return None
+def _ends_with(ends, page, target):
+    """Return the ends after one more choice, the exit of a page."""
+    return [ends[target] if end == page else end for end in ends]

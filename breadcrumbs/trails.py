@@ -71,14 +71,18 @@ def cuts(visits):
 
 def visits_of(trails):
     """Return the visits behind which the trails are these ones, or None."""
-    if not isinstance(trails, list) or len(trails) > MOST_VISITS or not all([is_trail(trail) for trail in trails]):
+    if not isinstance(trails, list) or len(trails) > MOST_VISITS or not _are_integer_lists(trails):
         raise InvalidTrailError("not a list of trails")
-    if [] in trails:
-        return None
+    fitting = True
+    before = []
+    for trail in trails:
+        # What a visit makes of a trail is one, so only other lists need a check.
+        if not _is_visited(before, trail):
+            check_trail(trail)
+            fitting = False
+        before = trail
     # The page visited last always ends the trail, so no other visits are possible.
-    visits = [trail[-1] for trail in trails]
-    found = list(trails_along(visits))
-    return visits if found == trails else None
+    return [trail[-1] for trail in trails] if fitting else None
 
 
 def check_visits(visits):
@@ -97,3 +101,19 @@ def _visited(trail, page):
     if page in trail:
         return trail[:trail.index(page) + 1]
     return [*trail, page]
+
+
+def _is_visited(before, trail):
+    """Tell whether a list of integers is what a visit of a page makes of the trail before."""
+    return len(trail) > 0 and 0 <= trail[-1] < PAGES and trail == _visited(before, trail[-1])
+
+
+def _are_integer_lists(values):
+    if not all([isinstance(value, list) for value in values]):
+        return False
+    # This tells the same as is_int, without a call for each of very many items.
+    others = [
+        item for value in values for item in value
+        if item is True or item is False or not isinstance(item, int)
+    ]
+    return len(others) == 0

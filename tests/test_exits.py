@@ -381,6 +381,35 @@ class PartingTrailTest(CallTest):
             for two in some_visits():
                 self.check_parting(one, two)
 
+    def test_drawn_pairs(self):
+        drawn = random.Random(13)
+        parted = 0
+        for many in (1, 2, 3, 4, 7, 40):
+            for _ in range(300):
+                one = drawn.choices(range(many), k=drawn.randrange(60))
+                two = drawn.choices(range(many), k=drawn.randrange(60))
+                self.check_parting(one, two)
+                parted += last_visits(one) != last_visits(two)
+        self.assertGreater(parted, 1000)
+
+    def test_drawn_pairs_that_are_much_alike(self):
+        drawn = random.Random(14)
+        for many in (2, 3, 7, 40):
+            for _ in range(200):
+                one = drawn.choices(range(many), k=drawn.randrange(1, 100))
+                two = list(one)
+                two.insert(drawn.randrange(len(two) + 1), drawn.randrange(many))
+                self.check_parting(one, two)
+                self.check_parting(two, one)
+
+    def test_all_pages_but_one(self):
+        self.check_parting(list(range(39)), list(range(40)) + list(range(39)))
+        self.check_parting(list(range(40)) + list(range(39)), list(range(39)))
+        for page in range(40):
+            others = [other for other in range(40) if other != page]
+            self.check_parting(others, [*others, page, *others])
+            self.check_parting([page, *others], others)
+
     def test_none(self):
         self.check_call(None, parting_trail, one=V, two=[0, 2, 3, 0, 1])
         self.check_call(None, parting_trail, one=[], two=[])
@@ -462,6 +491,32 @@ class EffectRankTest(CallTest):
                 index = drawn.randrange(many ** many)
                 self.assertEqual(effect_rank(nth_effect(many, index)), index)
         self.assertEqual(nth_effect(40, effect_rank(Effect(3, CHAIN))), Effect(3, CHAIN))
+
+    def test_many_drawn_indices(self):
+        drawn = random.Random(6)
+        for many in (1, 2, 3, 4, 7, 40):
+            count = many ** many
+            for index in [0, count - 1, *[drawn.randrange(count) for _ in range(300)]]:
+                effect = nth_effect(many, index)
+                self.assertEqual(len(effect), many)
+                self.check_same(index, effect_rank(effect))
+
+    def test_many_drawn_effects(self):
+        drawn = random.Random(16)
+        for many in (1, 2, 3, 4, 7, 40):
+            for _ in range(100):
+                visits = [*drawn.choices(range(many), k=drawn.randrange(80)), *drawn.sample(range(many), many),
+                          *drawn.choices(range(many), k=drawn.randrange(80))]
+                index = effect_rank(effect_of(visits))
+                self.assertEqual(parts(nth_effect(many, index)), last_visits(visits))
+
+    def test_order_of_drawn_effects(self):
+        drawn = random.Random(17)
+        for many in (3, 4, 7, 40):
+            for _ in range(50):
+                one, two = drawn.randrange(many ** many), drawn.randrange(many ** many)
+                former, latter = parts(nth_effect(many, one)), parts(nth_effect(many, two))
+                self.assertEqual([one < two, one == two], [former < latter, former == latter])
 
     def test_order_of_neighbours(self):
         for index in (0, 10 ** 10, 40 ** 39 - 1, 40 ** 40 - 2):

@@ -1,6 +1,7 @@
 """Visits and trails: [6] and [12]."""
 
 import itertools
+import random
 import types
 import unittest
 
@@ -28,6 +29,19 @@ def told_cuts(visits):
         if page in before:
             told.append((index, before[before.index(page) + 1:]))
     return told
+
+
+class Same:
+    """Is equal to a page, and is none."""
+
+    def __init__(self, page):
+        self.page = page
+
+    def __eq__(self, other):
+        return self.page == other
+
+    def __hash__(self):
+        return hash(self.page)
 
 
 class IsVisitsTest(CallTest):
@@ -224,6 +238,39 @@ class VisitsOfTest(CallTest):
             self.assertEqual(visits_of(list(trails_along(visits))), visits)
         self.check_call([0] * 300, visits_of, trails=[[0] for _ in range(300)])
         self.check_call([39], visits_of, trails=[[39]])
+
+    def test_most_trails(self):
+        for visits in (list(range(40)) * 7, [*range(40)] + [*range(39, -1, -1)] * 6, LONG):
+            trails = list(trails_along(visits))
+            self.check_call(visits, visits_of, trails=trails)
+            self.check_call(None, visits_of, trails=trails[1:])
+            self.check_call(None, visits_of, trails=[*trails[:-1], []])
+            self.check_call(None, visits_of, trails=[*trails[:-1], [39, 3]])
+
+    def test_one_trail_is_another_one(self):
+        drawn = random.Random(15)
+        for visits in some_visits():
+            told = list(trails_along(visits))
+            for _ in range(20):
+                at = drawn.randrange(len(visits))
+                page = drawn.randrange(40)
+                trails = [list(trail) for trail in told]
+                trails[at] = drawn.choice([[page], trails[at][:-1], trails[at][1:], trails[at][::-1],
+                                           [other for other in trails[at] if other != page] + [page]])
+                ends = [trail[-1:] for trail in trails]
+                found = [page for end in ends for page in end]
+                fits = [] not in ends and list(trails_along(found)) == trails
+                self.check_same(found if fits else None, visits_of(trails))
+
+    def test_one_trail_is_wrong(self):
+        trails = list(trails_along(list(range(40)) * 7))
+        for at in (0, 1, 2, 39, 40, 41, 279):
+            for wrong in (True, [True], (0,), None, [*trails[at], trails[at][0]], [*trails[at][:-1], 40],
+                          [*trails[at][:-1], -1], [False, *trails[at][1:]], [0.0, *trails[at][1:]],
+                          [Same(0), *trails[at][1:]], tuple(trails[at])):
+                for others in (trails, [[5, 6]] * 280):
+                    value = [*others[:at], wrong, *others[at + 1:]]
+                    self.check_error(InvalidTrailError, visits_of, value)
 
     def test_all_small_lists(self):
         trails = [[], [0], [1], [0, 1], [1, 0]]
