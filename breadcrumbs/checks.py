@@ -3,6 +3,8 @@
 from breadcrumbs.errors import InvalidNumberError
 
 PAGES = 40
+# The most visits where visits are only counted or told by an index.
+MOST_TIMES = 200
 
 
 def is_int(value):

@@ -75,8 +75,13 @@ class Effect:
 def effect_of(visits):
     """Return the effect of the visits."""
     check_visits(visits)
-    first = visits[0] if len(visits) > 0 else None
-    targets = _targets_of(visits)
+    return effect_of_pages(visits)
+
+
+def effect_of_pages(pages):
+    """Return the effect of visits of these pages, of which there may be more than visits may have."""
+    first = pages[0] if len(pages) > 0 else None
+    targets = _targets_of(pages)
     return Effect(first, sorted(targets.items()))
 
 

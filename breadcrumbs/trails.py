@@ -24,7 +24,7 @@ def trail_after(visits, *, start=None):
         check_trail(start)
         trail = list(start)
     for page in visits:
-        trail = _visited(trail, page)
+        trail = visited(trail, page)
     return trail
 
 
@@ -33,7 +33,7 @@ def trails_along(visits):
     check_visits(visits)
     trail = []
     for page in list(visits):
-        trail = _visited(trail, page)
+        trail = visited(trail, page)
         # A copy, because the caller may change what is yielded.
         yield list(trail)
 
@@ -62,7 +62,7 @@ def cuts(visits):
     found = []
     trail = []
     for index, page in enumerate(visits):
-        after = _visited(trail, page)
+        after = visited(trail, page)
         if page in trail:
             found.append((index, trail[len(after):]))
         trail = after
@@ -97,7 +97,8 @@ def check_trail(trail):
         raise InvalidTrailError("not a trail")
 
 
-def _visited(trail, page):
+def visited(trail, page):
+    """Return the trail after one more visit, a new list."""
     if page in trail:
         return trail[:trail.index(page) + 1]
     return [*trail, page]
@@ -105,7 +106,7 @@ def _visited(trail, page):
 
 def _is_visited(before, trail):
     """Tell whether a list of integers is what a visit of a page makes of the trail before."""
-    return len(trail) > 0 and 0 <= trail[-1] < PAGES and trail == _visited(before, trail[-1])
+    return len(trail) > 0 and 0 <= trail[-1] < PAGES and trail == visited(before, trail[-1])
 
 
 def _are_integer_lists(values):

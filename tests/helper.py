@@ -7,6 +7,7 @@ import types
 import unittest
 
 from breadcrumbs.errors import BreadcrumbsError
+from breadcrumbs.exits import Effect
 
 # Values that are nothing that a parameter of the package takes.
 STRANGE = [None, True, False, 1.0, "", "0", b"0", (), {}, {0: 1}, {0}, object(), [None], [[None]], [True], [False],
@@ -49,6 +50,14 @@ NO_WALKS_OF_S = [*[value for value in NO_PAGES_OF_S if value != [0, 1, 0]], [], 
 
 # Values for `steps` and `most`, which are integers from 0 to 60.
 NO_STEPS = [*NO_NUMBERS, 61, 62, "5", [5]]
+# Values for `many`, which is an integer from 1 to 40, and for `times`, which is one from 0 to 200.
+NO_MANY = [*NO_NUMBERS, 0, 41, "3", [3]]
+NO_TIMES = [*NO_NUMBERS, 201, 202, "3", [3]]
+
+NO_STRINGS = [None, True, False, 0, 1, -1, 0.5, b"", b"0", b"0:", [], ["0"], [0], (), ("0",), {}, {"0": 0}, {"0"},
+              object(), str, Effect]
+
+NOT_EFFECTS = [*STRANGE, *NO_NUMBERS, (0, [(0, 0)]), [(0, 0)], [0, [(0, 0)]], "0; 0>0", Effect, V]
 
 TWO_WAYS = [[1, 4], [0, 2, 4], [1, 3], [2, 4], [0, 1, 3]]
 # No walk from page 0 reaches page 3, and none from page 2 or page 4 goes on.

@@ -7,8 +7,8 @@ import unittest
 from breadcrumbs.errors import InvalidEffectError, InvalidNumberError, InvalidTrailError, InvalidVisitsError
 from breadcrumbs.exits import (Effect, count_effects, effect_of, effect_rank, nth_effect, parting_trail,
                                same_effect)
-from tests.helper import (LONG, NO_NUMBERS, NO_TRAILS, NO_VISITS, STRANGE, CallTest, V, last_visits, simulated,
-                          small_visits, some_visits)
+from tests.helper import (LONG, NO_MANY, NO_NUMBERS, NO_TRAILS, NO_VISITS, STRANGE, CallTest, V, last_visits,
+                          simulated, small_visits, some_visits)
 
 CHAIN = [(page, page + 1) for page in range(39)] + [(39, 39)]
 STAR = [(page, 7) for page in range(40)]
@@ -419,9 +419,6 @@ class PartingTrailTest(CallTest):
                          [("one", InvalidVisitsError, NO_VISITS), ("two", InvalidVisitsError, NO_VISITS)])
 
 
-MANY_WRONG = [*NO_NUMBERS, 0, 41, "3", [3]]
-
-
 class CountEffectsTest(CallTest):
     def test_document(self):
         self.check_call(27, count_effects, many=3)
@@ -435,7 +432,7 @@ class CountEffectsTest(CallTest):
             self.assertEqual(count_effects(many), many * len(all_exits(many)))
 
     def test_errors(self):
-        self.check_wrong(count_effects, {"many": 3}, [("many", InvalidNumberError, MANY_WRONG)])
+        self.check_wrong(count_effects, {"many": 3}, [("many", InvalidNumberError, NO_MANY)])
 
 
 class NthEffectTest(CallTest):
@@ -462,7 +459,7 @@ class NthEffectTest(CallTest):
 
     def test_errors(self):
         self.check_wrong(nth_effect, {"many": 3, "index": 0},
-                         [("many", InvalidNumberError, MANY_WRONG),
+                         [("many", InvalidNumberError, NO_MANY),
                           ("index", InvalidNumberError, [*NO_NUMBERS, 27, 28, "0", [0]])])
         for many in (1, 2, 4, 40):
             self.check_error(InvalidNumberError, nth_effect, many, many ** many)

@@ -20,19 +20,29 @@ FUNCTIONS = {
               "nth_walk(site, trail, steps, index)", "trails_with(site, page, steps)"],
     "orders": ["trails_from(site, page)", "count_trails(site, page)", "count_orders(site, pages)",
                "order_rank(site, trail)", "nth_order(site, pages, index)"],
+    "free": ["count_free(many, times, length)", "free_by_length(many, times)", "mean_length(many, times)"],
+    "lengths": ["is_lengths(value)", "lengths_of(visits)", "nth_lengths(many, times, index)",
+                "count_lengths(many, times)", "lengths_rank(many, lengths)", "count_visits(many, lengths)",
+                "visits_rank(many, visits)", "nth_visits(many, lengths, index)"],
+    "text": ["format_site(site)", "format_trail(trail)", "format_effect(effect)", "parse_site(text)",
+             "parse_trail(text)", "parse_effect(text)", "listed(visits)"],
+}
+CLASSES = {
+    "exits": ["Effect(first, exits)"],
+    "live": ["Trail()", "ShortTrail(most=5)", "CountingTrail()", "ShortCountingTrail(most=5)"],
 }
 GENERATORS = ["trails_along", "trails_with", "trails_from"]
 
 
 class InterfaceTest(unittest.TestCase):
-    def test_functions(self):
-        for name, told in FUNCTIONS.items():
+    def test_functions_and_classes(self):
+        for name, told in [*FUNCTIONS.items(), *CLASSES.items()]:
             module = importlib.import_module(f"breadcrumbs.{name}")
             for line in told:
-                function = getattr(module, line.partition("(")[0])
-                with self.subTest(file=name, function=line):
-                    self.assertEqual(function.__name__ + str(inspect.signature(function)), line)
-                    self.assertEqual(function.__module__, f"breadcrumbs.{name}")
+                found = getattr(module, line.partition("(")[0])
+                with self.subTest(file=name, line=line):
+                    self.assertEqual(found.__name__ + str(inspect.signature(found)), line)
+                    self.assertEqual(found.__module__, f"breadcrumbs.{name}")
 
     def test_generators(self):
         for name, told in FUNCTIONS.items():

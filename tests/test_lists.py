@@ -8,10 +8,9 @@ import unittest
 from breadcrumbs.errors import InvalidEffectError, InvalidNumberError, InvalidVisitsError
 from breadcrumbs.exits import Effect, effect_of, nth_effect
 from breadcrumbs.lists import count_shortest, fewest_visits, is_shortest, nth_shortest, shortest_rank
-from tests.helper import NO_NUMBERS, NO_VISITS, STRANGE, CallTest, V, last_visits
+from tests.helper import NO_NUMBERS, NO_VISITS, NOT_EFFECTS, CallTest, V, last_visits
 
 STAR_VISITS = [5, 6, 5, 7, 5]
-NO_EFFECTS = [*STRANGE, *NO_NUMBERS, (0, [(0, 0)]), [(0, 0)], [0, [(0, 0)]], Effect, V]
 CHAIN = [(page, page + 1) for page in range(39)] + [(39, 39)]
 # One page is the exit of 39 leaves.
 STAR = [(page, 7) for page in range(40)]
@@ -231,11 +230,11 @@ class EdgesTest(CallTest):
 class ErrorsTest(CallTest):
     def test_effects(self):
         for function in (fewest_visits, count_shortest):
-            self.check_wrong(function, {"effect": effect_of(V)}, [("effect", InvalidEffectError, NO_EFFECTS)])
+            self.check_wrong(function, {"effect": effect_of(V)}, [("effect", InvalidEffectError, NOT_EFFECTS)])
 
     def test_nth(self):
         self.check_wrong(nth_shortest, {"effect": effect_of(STAR_VISITS), "index": 0},
-                         [("effect", InvalidEffectError, NO_EFFECTS),
+                         [("effect", InvalidEffectError, NOT_EFFECTS),
                           ("index", InvalidNumberError, [*NO_NUMBERS, 2, 3, "0", [0]])])
 
     def test_visits(self):
